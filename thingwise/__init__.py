@@ -1,0 +1,1 @@
+"""Thingwise: what lies between known places."""
