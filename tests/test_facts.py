@@ -1,12 +1,16 @@
-"""Point 10: the facts F1 and F2 hold of what the program answers."""
+"""Point 10: the facts F1 to F9 hold of what the program answers."""
 
 import unittest
-from itertools import combinations
+from itertools import combinations, product
 
-from tests import trials
+from tests import trials, web_trials
+from thingwise.cuts import brings, flow, flow_worth, least_cut, least_sides
 from thingwise.errors import NoLot
 from thingwise.parts import can_be, closure, contrary
+from thingwise.prices import lot_prices, price, sure, thing_price
 from thingwise.tables import Table, closed_table, middles_to, missing_middle, rules_of, table_of
+from thingwise.tasks import Task, best_toward, cost, fills, least_total, star_against, thing_cuts
+from thingwise.webs import cut_gaps, cut_of
 
 
 class FactsTest(unittest.TestCase):
@@ -48,6 +52,98 @@ class FactsTest(unittest.TestCase):
             if literal in part or (literal,) in rules or any(brought):
                 found.append(literal)
         return tuple(found)
+
+    def test_f3_what_two_cuts_are_more(self):
+        for web in web_trials.chosen_webs(12, 5):
+            for side, other in product(web_trials.every_side(web.places), repeat=2):
+                crossing = in_both_and_neither = 0
+                for low, high, weight in web:
+                    if (low in side) == (low not in other) == (high not in side) == (high in other):
+                        crossing += weight
+                    if (low in side) == (low in other) == (high not in side) == (high not in other):
+                        in_both_and_neither += weight
+                self.assertEqual(cut_gaps(web, side, other), (2 * crossing, 2 * in_both_and_neither))
+
+    def test_f4_common_places_and_all_places_together(self):
+        for web, must, never in web_trials.webs_and_betweens():
+            sides = least_sides(web, must, never)
+            if len(sides) < 20:
+                for side, other in combinations(sides, 2):
+                    self.assertIn(tuple(sorted(set(side) & set(other))), sides)
+                    self.assertIn(tuple(sorted(set(side) | set(other))), sides)
+
+    def test_f4_what_least_sides_have(self):
+        for web, must, never in web_trials.webs_and_betweens():
+            if web.places < 7:
+                least, low, high = least_cut(web, must, never)
+                brought = brings(web, must, never)
+                for side in web_trials.every_side(web.places):
+                    if set(must) <= set(side) and not set(never) & set(side):
+                        told = set(low) <= set(side) <= set(high) and all(q in side for p, q in brought if p in side)
+                        self.assertIs(cut_of(web, side) == least, told)
+
+    def test_f5_flows_and_cuts(self):
+        for web, must, never in web_trials.webs_and_betweens():
+            rows = flow(web, must, never)
+            worth = flow_worth(web, must, never, rows)
+            self.assertEqual(worth, least_cut(web, must, never)[0])
+            for side in web_trials.every_side(min(web.places, 6)):
+                if set(must) <= set(side) and not set(never) & set(side):
+                    self.assertLessEqual(worth, cut_of(web, side))
+
+    def test_f6_best_fillings_are_sides_of_things(self):
+        for table, web, parts in web_trials.chosen_tasks(60, 300):
+            task = Task(table, web, parts)
+            self.assertEqual(least_total(task), sum(told[0] for told in thing_cuts(task)))
+            sides = [least_sides(web, *web_trials.tried_between(task.parts, thing)) for thing in range(table.things)]
+            for filling in web_trials.tried_fillings(table, parts):
+                there = [tuple(place for place in range(web.places) if thing in filling[place])
+                         for thing in range(table.things)]
+                told = all(side in found for side, found in zip(there, sides))
+                self.assertIs(cost(web, filling) == least_total(task), told)
+
+    def test_f7_stars(self):
+        for things, lots in trials.all_lists_of_lots(4):
+            found = star_against(Table(things, lots))
+            if found is not None:
+                web, parts, thing_by_thing, least = found
+                between = [web_trials.tried_between(parts, thing) for thing in range(things)]
+                self.assertEqual(thing_by_thing, sum(least_cut(web, must, never)[0] for must, never in between))
+                self.assertLess(thing_by_thing, least)
+
+    def test_f8_just_one_filling_toward_a_lot(self):
+        for table, web, parts in web_trials.chosen_tasks(60, 300):
+            task = Task(table, web, parts)
+            best = web_trials.tried_best(table, web, parts)[1]
+            for toward in table:
+                agreeing = [filling for filling in best if all(
+                    self.is_as_near(filling[place], other[place], toward)
+                    for other in best for place in range(web.places))]
+                self.assertEqual(agreeing, [best_toward(task, toward)])
+                self.assertTrue(fills(task, best_toward(task, toward)))
+
+    def is_as_near(self, lot, other, toward):
+        """Whether the lot agrees with the one toward in each thing in which the other one does."""
+        return set(lot) ^ set(toward) <= set(other) ^ set(toward)
+
+    def test_f9_sums_of_thing_prices(self):
+        for table, web, parts in web_trials.chosen_tasks(50, 300):
+            task = Task(table, web, parts)
+            for place in range(web.places):
+                alone = {literal: thing_price(task, place, literal) for literal in trials.every_literal(table.things)}
+                for literal, found in alone.items():
+                    longer = tuple(sorted({*task.parts[place], literal}))
+                    if found is None:
+                        self.assertIsNone(price(task, place, literal))
+                    else:
+                        brought = closure(table, longer)
+                        self.assertEqual(price(task, place, literal), sum(alone[known] for known in brought))
+                        self.assertEqual(price(task, place, literal) == 0, found == 0)
+                    against = alone[contrary(literal)]
+                    self.assertEqual(literal in sure(task, place), against is None or against > 0)
+                for more, lot in lot_prices(task, place):
+                    met = [found for literal, found in alone.items() if trials.does_meet(lot, literal)]
+                    self.assertEqual(more, sum(met))
 
 
 if __name__ == "__main__":

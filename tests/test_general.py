@@ -6,66 +6,15 @@ import unittest
 from itertools import product
 
 from tests import trials
-from thingwise import parts, tables
+from tests.arguments import CALLS, frozen, spoil
+from tests.web_trials import AT_MOST_ONE, EXAMPLE_WEB
+from thingwise import cuts, parts, prices, tables, tasks, webs
 from thingwise.errors import (
-    InvalidLiteral, InvalidLot, InvalidPart, InvalidRules, InvalidTable, InvalidThings, NoLot, NotClosed)
+    CannotBe, InvalidLiteral, InvalidPart, InvalidParts, InvalidPlace, InvalidRules, InvalidSide, InvalidWeight, NoLot,
+    NotClosed)
 from thingwise.tables import Table
-
-HUGE = 10 ** 39
-TABLE = Table(2, [(), (0,), (1,)])
-DEEP = [[[[[[[[[["in"]]]]]]]]]]
-
-# What is of none of the described kinds.
-NOTHING = [None, True, False, -1, -HUGE, "", "in", "0", "()", DEEP, (DEEP,), [None], (None,), [True], NoLot("x"),
-           (NoLot("x"),), [TABLE], (TABLE,), Table, [0] * 300]
-NO_LOTS = [(True,), (False,), (0, True), (1, 0), (0, 0), (-1,), ("0",), ("in",), ((),), ((0,),), ([0],), [], [0],
-           (0, None), (0, "in"), 0, 1]
-NO_LITERALS = [(), (0,), (0, "in", 0), (0, "on"), (0, "IN"), (0, b"in"), (0, None), (0, ("in",)), (True, "in"),
-               (-1, "in"), ("in", 0), ("0", "in"), [0, "in"], ((0, "in"),), (0, 1), (0, True), 0, ("in", "out")]
-NO_PARTS = [(0, "in"), (0,), [(0, "in")], ((0, "in"), (0, "in")), ((0, "in"), (0, "out")), ((1, "in"), (0, "in")),
-            ([0, "in"],), ((True, "in"),), ((0, "in"), (True, "in")), ((0, "in"), None), ((0, "on"),), ((),), [], 0]
-NO_RULES = [(), ((0, "in"),), (((0, "in"),),), [()], [(0, "in")], [[(0, "in")]], [((0, "in"), (0, "out"))], 0,
-            [((1, "in"), (0, "in"))], [((0, "in"),), None], [((0, "in"),), ()], [((True, "in"),)], [((0, "on"),)],
-            [((0, "in"), (1, "in"), (2, "in"))], [([0, "in"],)]]
-
-ANY_LOT = (InvalidLot, [(), (HUGE,)], NOTHING + NO_LOTS + [TABLE])
-LOT = (InvalidLot, [(), (0, 1)], NOTHING + NO_LOTS + [TABLE, (2,), (0, 2), (HUGE,)])
-ANY_LITERAL = (InvalidLiteral, [(0, "in"), (HUGE, "out")], NOTHING + NO_LITERALS + [TABLE])
-LITERAL = (InvalidLiteral, [(1, "out")], NOTHING + NO_LITERALS + [TABLE, (2, "in"), (HUGE, "out")])
-ANY_PART = (InvalidPart, [(), ((0, "in"), (HUGE, "out"))], NOTHING + NO_PARTS + [TABLE])
-PART = (InvalidPart, [(), ((0, "in"), (1, "out"))], NOTHING + NO_PARTS + [TABLE, ((2, "in"),), ((0, "in"), (HUGE, "in"))])
-GIVEN_TABLE = (InvalidTable, [TABLE], NOTHING + [0, 1, (), [], [()], (2, [()]), "2 -"])
-THINGS = (InvalidThings, [2], NOTHING + [0, (), (1,), [], [1], TABLE])
-RULES = (InvalidRules, [[], [((0, "in"),)]], NOTHING + NO_RULES + [TABLE, [((2, "in"),)], [((0, "in"), (2, "in"))]])
-LOTS = (InvalidTable, [[()], [(0, 1), (1,)]],
-        NOTHING + [[], (), ((),), 0, TABLE] + [[lot] for lot in NO_LOTS + [(2,), (HUGE,)]] + [[(), lot] for lot in NO_LOTS])
-VALUE = (None, [[], None, DEEP, TABLE, [((), (), ())]], [])
-
-CALLS = [
-    (Table, {"things": THINGS, "lots": LOTS}),
-    (tables.middle, {"lot": ANY_LOT, "other_lot": ANY_LOT, "third_lot": ANY_LOT}),
-    (tables.missing_middle, {"table": GIVEN_TABLE}),
-    (tables.closed_table, {"table": GIVEN_TABLE}),
-    (tables.rules_of, {"table": GIVEN_TABLE}),
-    (tables.table_of, {"things": THINGS, "rules": RULES}),
-    (tables.middles_to, {"table": GIVEN_TABLE, "lot": LOT}),
-    (tables.judge_middles, {"table": GIVEN_TABLE, "lot": LOT, "value": VALUE}),
-    (parts.contrary, {"literal": ANY_LITERAL}),
-    (parts.fits, {"lot": ANY_LOT, "part": ANY_PART}),
-    (parts.can_be, {"table": GIVEN_TABLE, "part": PART}),
-    (parts.closure, {"table": GIVEN_TABLE, "part": PART}),
-    (parts.clash, {"table": GIVEN_TABLE, "part": PART}),
-    (parts.why, {"table": GIVEN_TABLE, "part": PART, "literal": LITERAL}),
-]
-
-
-def frozen(value):
-    """A text that tells all of a value, tables included."""
-    if isinstance(value, Table):
-        return f"Table({value.things}, {value.lots})"
-    if isinstance(value, (tuple, list)):
-        return f"{value.__class__.__name__}({[frozen(item) for item in value]})"
-    return repr(value)
+from thingwise.tasks import Task
+from thingwise.webs import Web
 
 
 class WrongArgumentsTest(unittest.TestCase):
@@ -107,6 +56,14 @@ class WrongArgumentsTest(unittest.TestCase):
         self.assertRaises(InvalidLiteral, parts.why, table, (), (3, "in"))
         self.assertRaises(NotClosed, parts.why, table, ((0, "in"), (1, "in")), (2, "in"))
         self.assertRaises(InvalidRules, tables.table_of, 1, [((0, "in"),), ((0, "out"),), ((1, "in"),)])
+        self.assertRaises(InvalidParts, Task, table, EXAMPLE_WEB, (((0, "in"), (1, "in")), (), ((3, "in"),)))
+        self.assertRaises(NotClosed, Task, table, EXAMPLE_WEB, (((0, "in"), (1, "in")), (), ()))
+        self.assertRaises(InvalidWeight, webs.with_tie, EXAMPLE_WEB, 0, 1, True)
+        self.assertRaises(InvalidPlace, webs.with_tie, EXAMPLE_WEB, 0, 0, True)
+        self.assertRaises(InvalidSide, cuts.least_cut, EXAMPLE_WEB, (0,), (0,))
+        known = Task(AT_MOST_ONE, Web(1, []), (((0, "in"),),))
+        self.assertRaises(InvalidLiteral, prices.with_known, known, 0, (2, "in"))
+        self.assertRaises(CannotBe, prices.with_known, known, 0, (1, "in"))
 
     def test_names_of_parameters(self):
         for function, kinds in CALLS:
@@ -123,13 +80,34 @@ class WrongArgumentsTest(unittest.TestCase):
             return "no lot"
 
     def test_interface_is_defined_in_its_files(self):
+        files = (tables, parts, webs, cuts, tasks, prices)
         for function, _ in CALLS:
-            self.assertIn(function.__module__, ("thingwise.tables", "thingwise.parts"))
-        for name in ("__init__", "things", "lots", "__len__", "__iter__", "__contains__", "__eq__"):
-            self.assertIn(name, vars(Table))
+            homes = [module.__name__ for module in files if function.__module__ == module.__name__]
+            self.assertEqual(homes, [function.__module__])
+            self.assertIs(getattr(inspect.getmodule(function), function.__name__), function)
+        for made, names in ((Table, "__init__ things lots __len__ __iter__ __contains__ __eq__"),
+                            (Web, "__init__ places ties __len__ __iter__ __eq__ __add__"),
+                            (Task, "__init__ table web parts __eq__")):
+            for name in names.split():
+                self.assertIn(name, vars(made))
 
 
 class UnchangedTest(unittest.TestCase):
+
+    def test_right_arguments_stay_and_results_are_new(self):
+        for function, kinds in CALLS:
+            for values in product(*[kind[1] for kind in kinds.values()]):
+                before = frozen(values)
+                answers = []
+                for _ in range(2):
+                    try:
+                        answer = function(*values)
+                    except NoLot:
+                        answer = "no lot"
+                    answers.append(frozen(answer))
+                    spoil(answer)
+                    self.assertEqual(frozen(values), before)
+                self.assertEqual(answers[0], answers[1])
 
     def test_arguments_stay(self):
         for things, lots in trials.greater_lists_of_lots(3):

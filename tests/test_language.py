@@ -1,6 +1,7 @@
 """The plainest ones of the rules of the language, for all files of the package."""
 
 import ast
+import builtins
 import pathlib
 import unittest
 
@@ -49,6 +50,47 @@ class LanguageTest(unittest.TestCase):
                 if isinstance(node, ast.Constant):
                     self.assertNotIsInstance(node.value, (float, complex), name)
                     self.assertFalse(isinstance(node.value, str) and "%" in node.value, name)
+
+    def test_names_have_one_meaning(self):
+        for name, text in self.texts.items():
+            tree = ast.parse(text)
+            taken = set(dir(builtins))
+            for node in tree.body:
+                if isinstance(node, ast.ImportFrom):
+                    taken.update(alias.name for alias in node.names)
+                if isinstance(node, (ast.ClassDef, ast.FunctionDef)):
+                    taken.add(node.name)
+            for node in ast.walk(tree):
+                if isinstance(node, ast.arg):
+                    self.assertNotIn(node.arg, taken, name)
+                if isinstance(node, ast.Name) and isinstance(node.ctx, ast.Store):
+                    self.assertNotIn(node.id, taken, name)
+
+    def test_library_is_not_used(self):
+        """Beside the package's own functions only these are called by a bare name."""
+        plain = {"len", "range", "enumerate", "zip", "min", "max", "sum", "sorted", "reversed", "list", "tuple", "set",
+                 "isinstance", "any", "all", "iter", "type"}
+        for name, text in self.texts.items():
+            tree = ast.parse(text)
+            own = {node.name for node in tree.body if isinstance(node, (ast.ClassDef, ast.FunctionDef))}
+            for node in tree.body:
+                if isinstance(node, ast.ImportFrom):
+                    own.update(alias.name for alias in node.names)
+            for node in ast.walk(tree):
+                if isinstance(node, ast.Call) and isinstance(node.func, ast.Name):
+                    self.assertIn(node.func.id, own | plain, name)
+
+    def test_files_do_not_import_in_a_ring(self):
+        imports = {}
+        for name, text in self.texts.items():
+            imports["thingwise." + name[:-3]] = [
+                node.module for node in ast.walk(ast.parse(text)) if isinstance(node, ast.ImportFrom)]
+        left = dict(imports)
+        while left:
+            free = [name for name, needed in left.items() if not any(other in left for other in needed)]
+            self.assertTrue(free, sorted(left))
+            for name in free:
+                del left[name]
 
 
 if __name__ == "__main__":

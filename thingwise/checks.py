@@ -3,7 +3,9 @@
 Wherever a number of things is asked for here, None stands for "of any things".
 """
 
-from thingwise.errors import InvalidLiteral, InvalidLot, InvalidPart, InvalidRules, InvalidThings
+from thingwise.errors import (
+    InvalidFilling, InvalidLiteral, InvalidLot, InvalidOrder, InvalidPart, InvalidParts, InvalidPlace, InvalidPlaces,
+    InvalidRules, InvalidSide, InvalidThings, InvalidWeight)
 
 
 def is_integer(value, least):
@@ -52,6 +54,26 @@ def is_rule(value, things):
     return is_part(value, things) and len(value) in (1, 2)
 
 
+def is_place(value, places):
+    """Whether any value is one of so many places."""
+    return is_integer(value, 0) and value < places
+
+
+def is_told_tie(value, places):
+    """Whether any value is a tuple of two unlike ones of so many places, in either order, and a weight, maybe 0."""
+    if type(value) is not tuple or len(value) != 3:
+        return False
+    place, other_place, weight = value
+    if not is_place(place, places) or not is_place(other_place, places):
+        return False
+    return place != other_place and is_integer(weight, 0)
+
+
+def is_side(value, places):
+    """Whether any value is a side of so many places: an ascending tuple, as a lot is one of things."""
+    return is_lot(value, places)
+
+
 def check_things(things):
     """Raises InvalidThings unless this is a number of things."""
     if not is_integer(things, 1):
@@ -80,3 +102,65 @@ def check_part(part, things):
     """Raises InvalidPart unless this is a part of so many things."""
     if not is_part(part, things):
         raise InvalidPart("a part must be an ascending tuple of literals of unlike things")
+
+
+def check_places(places):
+    """Raises InvalidPlaces unless this is a number of places."""
+    if not is_integer(places, 1):
+        raise InvalidPlaces("the number of places must be an integer from 1 on")
+
+
+def check_place(place, places):
+    """Raises InvalidPlace unless this is one of so many places."""
+    if not is_place(place, places):
+        raise InvalidPlace("a place must be an integer from 0 on, less than the number of places")
+
+
+def check_other_place(other_place, place, places):
+    """Raises InvalidPlace unless this is one of so many places, unlike the first one."""
+    check_place(other_place, places)
+    if other_place == place:
+        raise InvalidPlace("the other place must be unlike the first one")
+
+
+def check_weight(weight):
+    """Raises InvalidWeight unless this is a weight, 0 included."""
+    if not is_integer(weight, 0):
+        raise InvalidWeight("a weight must be an integer from 0 on")
+
+
+def check_side(side, places):
+    """Raises InvalidSide unless this is a side of so many places."""
+    if not is_side(side, places):
+        raise InvalidSide("a side must be an ascending tuple of places that are there")
+
+
+def check_never(never, must, places):
+    """Raises InvalidSide unless this is a side of so many places without a place of must."""
+    check_side(never, places)
+    if any([place in must for place in never]):
+        raise InvalidSide("must and never may not have a common place")
+
+
+def check_order(order, places):
+    """Raises InvalidOrder unless this is a tuple with each of so many places once."""
+    if type(order) is not tuple or not all([is_place(place, places) for place in order]):
+        raise InvalidOrder("an order must be a tuple of places that are there")
+    if len(order) != places or len(set(order)) != places:
+        raise InvalidOrder("an order must have each place once")
+
+
+def check_parts(parts, things, places):
+    """Raises InvalidParts unless this is a tuple with a part of so many things for each of so many places."""
+    if type(parts) is not tuple or len(parts) != places:
+        raise InvalidParts("parts must be a tuple with a part for each place")
+    if not all([is_part(part, things) for part in parts]):
+        raise InvalidParts("each of the parts must be a part of the things of the table")
+
+
+def check_filling(filling, places):
+    """Raises InvalidFilling unless this is a tuple with a lot of any things for each of so many places."""
+    if type(filling) is not tuple or len(filling) != places:
+        raise InvalidFilling("a filling must be a tuple with a lot for each place")
+    if not all([is_lot(lot, None) for lot in filling]):
+        raise InvalidFilling("a filling must have nothing but lots")

@@ -1,8 +1,8 @@
 """Parts: what can be known of a lot, what follows from it, and why."""
 
 from thingwise.checks import check_literal, check_lot, check_part
-from thingwise.errors import NoLot, NotClosed
-from thingwise.tables import all_literals, check_table, has_rule, is_closed, meets
+from thingwise.errors import NoLot
+from thingwise.tables import all_literals, check_closed, check_table, has_rule, meets
 
 
 def contrary(literal):
@@ -23,14 +23,14 @@ def can_be(table, part):
     """Whether some lot of the table fits the part."""
     check_table(table)
     check_part(part, table.things)
-    return len(_fitting_lots(table, part)) > 0
+    return len(fitting_lots(table, part)) > 0
 
 
 def closure(table, part):
     """The part of all literals that all lots of the table that fit the part meet."""
     check_table(table)
     check_part(part, table.things)
-    lots = _fitting_lots(table, part)
+    lots = fitting_lots(table, part)
     if len(lots) == 0:
         raise NoLot("no lot of the table fits the part")
     literals = all_literals(table.things)
@@ -41,7 +41,7 @@ def clash(table, part):
     """The least one or two literals of the part that cannot be together, None if the part can be."""
     check_table(table)
     check_part(part, table.things)
-    _check_closed(table)
+    check_closed(table)
     if can_be(table, part):
         return None
     groups = [(literal,) for literal in part] + _pairs(part)
@@ -54,7 +54,7 @@ def why(table, part, literal):
     check_table(table)
     check_part(part, table.things)
     check_literal(literal, table.things)
-    _check_closed(table)
+    check_closed(table)
     if literal not in closure(table, part):
         return None
     if literal in part:
@@ -64,15 +64,9 @@ def why(table, part, literal):
     return [rule for rule in rules if has_rule(table, rule)][0]
 
 
-def _fitting_lots(table, part):
+def fitting_lots(table, part):
     """The list of the lots of the table that fit the part."""
     return [lot for lot in table if fits(lot, part)]
-
-
-def _check_closed(table):
-    """Raises NotClosed unless the table is closed."""
-    if not is_closed(table):
-        raise NotClosed("the table is not closed")
 
 
 def _pairs(part):

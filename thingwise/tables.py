@@ -1,7 +1,7 @@
 """Tables of allowed lots: their middles, their rules, and whether they are closed."""
 
 from thingwise.checks import check_lot, check_rules, check_things, is_lot
-from thingwise.errors import InvalidTable, NoLot
+from thingwise.errors import InvalidTable, NoLot, NotClosed
 
 
 class Table:
@@ -126,6 +126,12 @@ def closed_table(table):
 def is_closed(table):
     """Whether the table is closed."""
     return len(closed_table(table)) == len(table)
+
+
+def check_closed(table):
+    """Raises NotClosed unless the table is closed."""
+    if not is_closed(table):
+        raise NotClosed("the table is not closed")
 
 
 def missing_middle(table):

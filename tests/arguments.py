@@ -1,0 +1,146 @@
+"""The calls of the interface, with right and wrong arguments of the described kinds, for the tests of point 2."""
+
+from tests.web_trials import AT_MOST_ONE, EXAMPLE_PARTS, EXAMPLE_WEB
+from thingwise import cuts, parts, prices, tables, tasks, webs
+from thingwise.errors import (
+    InvalidFilling, InvalidLiteral, InvalidLot, InvalidOrder, InvalidPart, InvalidParts, InvalidPlace, InvalidPlaces,
+    InvalidRules, InvalidSide, InvalidTable, InvalidTask, InvalidThings, InvalidTies, InvalidWeb, InvalidWeight, NoLot)
+from thingwise.tables import Table
+from thingwise.tasks import Task
+from thingwise.webs import Web
+
+HUGE = 10 ** 39
+TABLE = AT_MOST_ONE
+WEB = EXAMPLE_WEB
+TASK = Task(TABLE, WEB, ((), (), EXAMPLE_PARTS[2]))
+DEEP = [[[[[[[[[["in"]]]]]]]]]]
+
+# What is of none of the described kinds.
+NOTHING = [None, True, False, -1, -HUGE, "", "in", "0", "()", DEEP, (DEEP,), [None], (None,), [True], NoLot("x"),
+           (NoLot("x"),), [TABLE], (TABLE,), Table, [0] * 300,
+           [TASK], (WEB,), Web, Task]
+NO_LOTS = [(True,), (False,), (0, True), (1, 0), (0, 0), (-1,), ("0",), ("in",), ((),), ((0,),), ([0],), [], [0],
+           (0, None), (0, "in"), 0, 1]
+NO_LITERALS = [(), (0,), (0, "in", 0), (0, "on"), (0, "IN"), (0, b"in"), (0, None), (0, ("in",)), (True, "in"),
+               (-1, "in"), ("in", 0), ("0", "in"), [0, "in"], ((0, "in"),), (0, 1), (0, True), 0, ("in", "out")]
+NO_PARTS = [(0, "in"), (0,), [(0, "in")], ((0, "in"), (0, "in")), ((0, "in"), (0, "out")), ((1, "in"), (0, "in")),
+            ([0, "in"],), ((True, "in"),), ((0, "in"), (True, "in")), ((0, "in"), None), ((0, "on"),), ((),), [], 0]
+NO_RULES = [(), ((0, "in"),), (((0, "in"),),), [()], [(0, "in")], [[(0, "in")]], [((0, "in"), (0, "out"))], 0,
+            [((1, "in"), (0, "in"))], [((0, "in"),), None], [((0, "in"),), ()], [((True, "in"),)], [((0, "on"),)],
+            [((0, "in"), (1, "in"), (2, "in"))], [([0, "in"],)]]
+
+ANY_LOT = (InvalidLot, [(), (HUGE,)], NOTHING + NO_LOTS + [TABLE])
+LOT = (InvalidLot, [(), (0, 1)], NOTHING + NO_LOTS + [TABLE, (2,), (0, 2), (HUGE,)])
+ANY_LITERAL = (InvalidLiteral, [(0, "in"), (HUGE, "out")], NOTHING + NO_LITERALS + [TABLE])
+LITERAL = (InvalidLiteral, [(1, "out")], NOTHING + NO_LITERALS + [TABLE, (2, "in"), (HUGE, "out")])
+ANY_PART = (InvalidPart, [(), ((0, "in"), (HUGE, "out"))], NOTHING + NO_PARTS + [TABLE])
+PART = (InvalidPart, [(), ((0, "in"), (1, "out"))], NOTHING + NO_PARTS + [TABLE, ((2, "in"),), ((0, "in"), (HUGE, "in"))])
+GIVEN_TABLE = (InvalidTable, [TABLE], NOTHING + [0, 1, (), [], [()], (2, [()]), "2 -"])
+THINGS = (InvalidThings, [2], NOTHING + [0, (), (1,), [], [1], TABLE])
+RULES = (InvalidRules, [[], [((0, "in"),)]], NOTHING + NO_RULES + [TABLE, [((2, "in"),)], [((0, "in"), (2, "in"))]])
+LOTS = (InvalidTable, [[()], [(0, 1), (1,)]],
+        NOTHING + [[], (), ((),), 0, TABLE] + [[lot] for lot in NO_LOTS + [(2,), (HUGE,)]] + [[(), lot] for lot in NO_LOTS])
+VALUE = (None, [[], None, DEEP, TABLE, [((), (), ())]], [])
+
+# Of webs and tasks: a web of three places; where `place` stands it is 1, where `must` stands it is (0,).
+NO_PLACES = [3, HUGE, (0,), [0], (), "1", WEB]
+NO_SIDES = [0, 1, [], [0], (1, 0), (0, 0), (3,), (0, 3), (HUGE,), (True,), (0, True), (-1,), ("0",), ((),), (None,), WEB]
+NO_TIES = [(0, 1, 1), ((0, 1, 1),), [(0, 1)], [(0, 1, 1, 1)], [[0, 1, 1]], [(0, 0, 1)], [(0, 3, 1)], [(HUGE, 0, 1)],
+           [(0, 1, -1)], [(0, 1, True)], [(True, 0, 1)], [(0, False, 1)], [(0, 1, None)], [("0", "1", 1)], [()], WEB, 0]
+NO_ORDERS = [(), (0, 1), (0, 1, 1), (0, 1, 2, 2), (0, 1, 3), [0, 1, 2], (0, True, 2), ("0", 1, 2), (-1, 0, 1), 0, WEB]
+NO_PART_TUPLES = [(), ((), ()), ((), (), (), ()), [(), (), ()], ((), (), []), ((), None, ()), ((0, "in"), (), ()), 0,
+                  (((2, "in"),), (), ()), (((0, "in"), (0, "out")), (), ()), ((), ((True, "in"),), ()), TASK]
+NO_FILLINGS = [(), ((), ()), ((), (), (), ()), [(), (), ()], ((), (), []), ((), None, ()), ((1, 0), (), ()), (0, 1, 2),
+               ((), (True,), ()), ((), (-1,), ()), "012", 0, TASK]
+
+PLACES = (InvalidPlaces, [3], NOTHING + [0, (), (3,), [], WEB])
+TIES = (InvalidTies, [[], [(0, 1, 2), (2, 1, 0), (1, 0, 1)]], NOTHING + NO_TIES)
+GIVEN_WEB = (InvalidWeb, [WEB], NOTHING + [0, 3, (), [], (3, []), "3 0-1:2", TABLE, TASK])
+GIVEN_TASK = (InvalidTask, [TASK], NOTHING + [0, (), [], TABLE, WEB, (TABLE, WEB, ((), (), ()))])
+PLACE = (InvalidPlace, [1], NOTHING + NO_PLACES)
+OTHER_PLACE = (InvalidPlace, [0, 2], NOTHING + NO_PLACES + [1])
+WEIGHT = (InvalidWeight, [0, 10 ** 12 - 1], NOTHING + [(), (1,), [], [1], WEB])
+SIDE = (InvalidSide, [(), (0, 2)], NOTHING + NO_SIDES)
+MUST = (InvalidSide, [(0,)], NOTHING + NO_SIDES)
+NEVER = (InvalidSide, [(), (2,), (1, 2)], NOTHING + NO_SIDES + [(0,), (0, 1)])
+ORDER = (InvalidOrder, [(0, 1, 2), (2, 0, 1)], NOTHING + NO_ORDERS)
+PARTS = (InvalidParts, [((), (), ()), EXAMPLE_PARTS], NOTHING + NO_PART_TUPLES)
+FILLING = (InvalidFilling, [((), (0,), (HUGE,))], NOTHING + NO_FILLINGS)
+TOWARD = (InvalidLot, [(), (1,)], NOTHING + NO_LOTS + [TABLE, (0, 1), (2,), (HUGE,)])
+KNOWN_LOTS = (InvalidLot, [[(0, 1), None], [None]],
+              [value for value in NOTHING if value != [None]] + [(), ((),), (None,), 0, TABLE, [(2,)], [(), (HUGE,)],
+                                                                 [False]] + [[lot] for lot in NO_LOTS])
+FLOW = (None, VALUE[1] + [[(0, 1, 1), (1, 2, 1)], [(0, 1, 2)]], [])
+FLOWS = (None, VALUE[1] + [[[], []], [[(0, 1, 2), (1, 2, 2)], []]], [])
+FILLED = (None, VALUE[1] + [((0,), (1,), (1,)), ((0,), (0,), (1,))], [])
+
+CALLS = [
+    (Table, {"things": THINGS, "lots": LOTS}),
+    (tables.middle, {"lot": ANY_LOT, "other_lot": ANY_LOT, "third_lot": ANY_LOT}),
+    (tables.missing_middle, {"table": GIVEN_TABLE}),
+    (tables.closed_table, {"table": GIVEN_TABLE}),
+    (tables.rules_of, {"table": GIVEN_TABLE}),
+    (tables.table_of, {"things": THINGS, "rules": RULES}),
+    (tables.middles_to, {"table": GIVEN_TABLE, "lot": LOT}),
+    (tables.judge_middles, {"table": GIVEN_TABLE, "lot": LOT, "value": VALUE}),
+    (parts.contrary, {"literal": ANY_LITERAL}),
+    (parts.fits, {"lot": ANY_LOT, "part": ANY_PART}),
+    (parts.can_be, {"table": GIVEN_TABLE, "part": PART}),
+    (parts.closure, {"table": GIVEN_TABLE, "part": PART}),
+    (parts.clash, {"table": GIVEN_TABLE, "part": PART}),
+    (parts.why, {"table": GIVEN_TABLE, "part": PART, "literal": LITERAL}),
+    (Web, {"places": PLACES, "ties": TIES}),
+    (webs.weight_of, {"web": GIVEN_WEB, "place": PLACE, "other_place": OTHER_PLACE}),
+    (webs.with_tie, {"web": GIVEN_WEB, "place": PLACE, "other_place": OTHER_PLACE, "weight": WEIGHT}),
+    (webs.cut_of, {"web": GIVEN_WEB, "side": SIDE}),
+    (webs.cut_gaps, {"web": GIVEN_WEB, "side": SIDE, "other_side": SIDE}),
+    (webs.glued, {"web": GIVEN_WEB, "place": PLACE, "other_place": OTHER_PLACE}),
+    (webs.renamed, {"web": GIVEN_WEB, "order": ORDER}),
+    (webs.pieces, {"web": GIVEN_WEB}),
+    (webs.is_forest, {"web": GIVEN_WEB}),
+    (cuts.least_cut, {"web": GIVEN_WEB, "must": MUST, "never": NEVER}),
+    (cuts.least_sides, {"web": GIVEN_WEB, "must": MUST, "never": NEVER}),
+    (cuts.brings, {"web": GIVEN_WEB, "must": MUST, "never": NEVER}),
+    (cuts.flow, {"web": GIVEN_WEB, "must": MUST, "never": NEVER}),
+    (cuts.flow_worth, {"web": GIVEN_WEB, "must": MUST, "never": NEVER, "value": FLOW}),
+    (Task, {"table": GIVEN_TABLE, "web": GIVEN_WEB, "parts": PARTS}),
+    (tasks.parts_of, {"things": THINGS, "lots": KNOWN_LOTS}),
+    (tasks.cost, {"web": GIVEN_WEB, "filling": FILLING}),
+    (tasks.fills, {"task": GIVEN_TASK, "value": FILLED}),
+    (tasks.thing_cuts, {"task": GIVEN_TASK}),
+    (tasks.least_total, {"task": GIVEN_TASK}),
+    (tasks.best_toward, {"task": GIVEN_TASK, "toward": TOWARD}),
+    (tasks.flows, {"task": GIVEN_TASK}),
+    (tasks.shows_best, {"task": GIVEN_TASK, "value": FILLED, "other_value": FLOWS}),
+    (tasks.tried_total, {"table": GIVEN_TABLE, "web": GIVEN_WEB, "parts": PARTS}),
+    (tasks.star_against, {"table": GIVEN_TABLE}),
+    (prices.thing_price, {"task": GIVEN_TASK, "place": PLACE, "literal": LITERAL}),
+    (prices.price, {"task": GIVEN_TASK, "place": PLACE, "literal": LITERAL}),
+    (prices.lot_prices, {"task": GIVEN_TASK, "place": PLACE}),
+    (prices.lots_at, {"task": GIVEN_TASK, "place": PLACE}),
+    (prices.sure, {"task": GIVEN_TASK, "place": PLACE}),
+    (prices.open_places, {"task": GIVEN_TASK}),
+    (prices.with_known, {"task": GIVEN_TASK, "place": PLACE, "literal": LITERAL}),
+]
+
+
+def frozen(value):
+    """A text that tells all of a value, objects of the package included."""
+    if isinstance(value, Table):
+        return f"Table({value.things}, {value.lots})"
+    if isinstance(value, Web):
+        return f"Web({value.places}, {value.ties})"
+    if isinstance(value, Task):
+        return f"Task({frozen(value.table)}, {frozen(value.web)}, {value.parts})"
+    if isinstance(value, (tuple, list)):
+        return f"{value.__class__.__name__}({[frozen(item) for item in value]})"
+    return repr(value)
+
+
+def spoil(value):
+    """Changes all lists in a value."""
+    if isinstance(value, (tuple, list)):
+        for item in value:
+            spoil(item)
+    if isinstance(value, list):
+        value.append("spoiled")
