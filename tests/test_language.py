@@ -5,6 +5,8 @@ import builtins
 import pathlib
 import unittest
 
+from tests.loops import loops_that_change_what_they_walk
+
 PACKAGE = pathlib.Path(__file__).resolve().parent.parent / "thingwise"
 BARRED = (ast.GeneratorExp, ast.AsyncFunctionDef, ast.Global, ast.Try, ast.Div, ast.Set)
 
@@ -80,6 +82,10 @@ class LanguageTest(unittest.TestCase):
                 if isinstance(node, ast.Call) and isinstance(node.func, ast.Name):
                     self.assertIn(node.func.id, own | plain, name)
 
+    def test_loops_do_not_change_what_they_walk(self):
+        for name, text in self.texts.items():
+            self.assertEqual(loops_that_change_what_they_walk(ast.parse(text)), [], name)
+
     def test_files_do_not_import_in_a_ring(self):
         imports = {}
         for name, text in self.texts.items():
@@ -91,6 +97,39 @@ class LanguageTest(unittest.TestCase):
             self.assertTrue(free, sorted(left))
             for name in free:
                 del left[name]
+
+
+class LoopsTest(unittest.TestCase):
+    """What the test of the loops above finds, and what it lets pass."""
+
+    def rows_of(self, *lines):
+        text = "def walk(xs, ys, box, d):\n" + "\n".join("    " + line for line in lines)
+        return loops_that_change_what_they_walk(ast.parse(text))
+
+    def test_another_name_of_the_list(self):
+        lines = ["layer = list(xs)", "while len(layer) > 0:", "    found = []", "    for x in layer:",
+                 "        found.append(x)", "    layer = found"]
+        self.assertEqual(self.rows_of(*lines), [6])
+        self.assertEqual(self.rows_of(*lines[:3], "    for x in list(layer):", *lines[4:]), [])
+        self.assertEqual(self.rows_of(*lines[:5], "    layer = list(found)"), [])
+
+    def test_what_is_found(self):
+        for change in ("xs.append(x)", "xs[0] = x", "del xs[0]", "xs += [x]", "xs[0] += 1", "xs[0].append(x)", "xs.pop()",
+                       "if x:\n            xs.clear()", "ys = xs\n        ys.pop()", "ys, n = xs, 1\n        ys.pop()"):
+            for walked in ("xs", "enumerate(xs)", "zip(ys, xs)", "reversed(xs)", "(xs if d else ys)", "(ys or xs)"):
+                self.assertNotEqual(self.rows_of(f"for x in {walked}:", "    " + change), [], (walked, change))
+        self.assertEqual(self.rows_of("for x in box.rows:", "    box.rows.append(x)"), [3])
+        self.assertEqual(self.rows_of("for x in d.items():", "    d[x] = 1"), [3])
+        self.assertEqual(self.rows_of("return [xs.pop() for x in xs]"), [2])
+        self.assertEqual(self.rows_of("zs = xs if d else ys", "for x in ys:", "    zs.append(x)"), [4])
+        self.assertEqual(self.rows_of("box.rows = xs", "for x in xs:", "    box.rows.append(x)"), [4])
+
+    def test_what_passes(self):
+        for walked in ("list(xs)", "sorted(xs)", "list(xs[1:])", "range(len(xs))", "ys"):
+            self.assertEqual(self.rows_of(f"for x in {walked}:", "    xs.append(x)", "    xs[0] = x"), [], walked)
+        self.assertEqual(self.rows_of("for x in xs:", "    ys[x] = xs[0]", "    n = len(xs)"), [])
+        self.assertEqual(self.rows_of("for x in xs:", "    ys = list(xs)", "    ys.append(x)"), [])
+        self.assertEqual(self.rows_of("for x in xs:", "    box.count(x)", "xs.append(1)"), [])
 
 
 if __name__ == "__main__":

@@ -152,7 +152,7 @@ def ways_from(starts, rooms):
     layer = list(starts)
     while len(layer) > 0:
         found = []
-        for place in layer:
+        for place in list(layer):
             for other_place in range(len(rooms)):
                 if rooms[place][other_place] > 0 and other_place not in ahead:
                     ahead[other_place] = place
