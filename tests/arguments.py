@@ -1,10 +1,11 @@
 """The calls of the interface, with right and wrong arguments of the described kinds, for the tests of point 2."""
 
 from tests.web_trials import AT_MOST_ONE, EXAMPLE_PARTS, EXAMPLE_WEB
-from thingwise import cuts, parts, prices, tables, tasks, webs
+from thingwise import best, cuts, forests, parts, prices, tables, tasks, ties, webs
 from thingwise.errors import (
     InvalidFilling, InvalidLiteral, InvalidLot, InvalidOrder, InvalidPart, InvalidParts, InvalidPlace, InvalidPlaces,
-    InvalidRules, InvalidSide, InvalidTable, InvalidTask, InvalidThings, InvalidTies, InvalidWeb, InvalidWeight, NoLot)
+    InvalidRules, InvalidSide, InvalidTable, InvalidTask, InvalidThing, InvalidThings, InvalidTies, InvalidWeb,
+    InvalidWeight, InvalidWishes, NoLot)
 from thingwise.tables import Table
 from thingwise.tasks import Task
 from thingwise.webs import Web
@@ -50,6 +51,11 @@ NO_TIES = [(0, 1, 1), ((0, 1, 1),), [(0, 1)], [(0, 1, 1, 1)], [[0, 1, 1]], [(0, 
 NO_ORDERS = [(), (0, 1), (0, 1, 1), (0, 1, 2, 2), (0, 1, 3), [0, 1, 2], (0, True, 2), ("0", 1, 2), (-1, 0, 1), 0, WEB]
 NO_PART_TUPLES = [(), ((), ()), ((), (), (), ()), [(), (), ()], ((), (), []), ((), None, ()), ((0, "in"), (), ()), 0,
                   (((2, "in"),), (), ()), (((0, "in"), (0, "out")), (), ()), ((), ((True, "in"),), ()), TASK]
+NO_WISHES = [(), ((1, (0, "in")),), (1, (0, "in")), 0, TASK] + [[wrong] for wrong in (
+    None, 0, (), (1,), (0, "in"), [1, (0, "in")], (1, [0, "in"]), (1, (0, "in"), 0), (3, (0, "in")), (-1, (0, "in")),
+    (True, (0, "in")), (1, (2, "in")), (1, (True, "in")), (1, (0, "on")), (HUGE, (0, "in")), (1, (HUGE, "in")), (1, 0, "in"),
+    ((0, "in"), 1), ("1", (0, "in")), (1, None))] + [[(1, (0, "in")), None], [(1, (0, "in")), (1, (0, "on"))]]
+NO_FREE_FILLINGS = [(), [(), (0,)], ((), []), ((), None), ((1, 0), ()), (0, 1), ((), (True,)), ((), (-1,)), "01", 0, TASK]
 NO_FILLINGS = [(), ((), ()), ((), (), (), ()), [(), (), ()], ((), (), []), ((), None, ()), ((1, 0), (), ()), (0, 1, 2),
                ((), (True,), ()), ((), (-1,), ()), "012", 0, TASK]
 
@@ -66,6 +72,13 @@ NEVER = (InvalidSide, [(), (2,), (1, 2)], NOTHING + NO_SIDES + [(0,), (0, 1)])
 ORDER = (InvalidOrder, [(0, 1, 2), (2, 0, 1)], NOTHING + NO_ORDERS)
 PARTS = (InvalidParts, [((), (), ()), EXAMPLE_PARTS], NOTHING + NO_PART_TUPLES)
 FILLING = (InvalidFilling, [((), (0,), (HUGE,))], NOTHING + NO_FILLINGS)
+BEST_FILLING = (InvalidFilling, [((1,), (1,), (1,))], NOTHING + NO_FILLINGS)
+FREE_FILLING = (InvalidFilling, [((), (HUGE,)), ((1,), (1, 2))], NOTHING + NO_FREE_FILLINGS)
+OTHER_FILLING = (InvalidFilling, [((), ()), ((1,), (0, 1))], NOTHING + NO_FREE_FILLINGS + [((),), ((), (), ())])
+WISHES = (InvalidWishes, [[], [(1, (0, "in")), (1, (0, "out")), (1, (0, "in"))], [(1, (1, "in"))]], [
+    value for value in NOTHING if value != []] + NO_WISHES)
+THING = (InvalidThing, [0, 1], NOTHING + [2, HUGE, (), (0,), [0], "1", (0, "in"), TABLE])
+TIE_WEIGHT = (InvalidWeight, [1, 10 ** 12 - 1], NOTHING + [0, (), (1,), [], [1], WEB])
 TOWARD = (InvalidLot, [(), (1,)], NOTHING + NO_LOTS + [TABLE, (0, 1), (2,), (HUGE,)])
 KNOWN_LOTS = (InvalidLot, [[(0, 1), None], [None]],
               [value for value in NOTHING if value != [None]] + [(), ((),), (None,), 0, TABLE, [(2,)], [(), (HUGE,)],
@@ -121,6 +134,21 @@ CALLS = [
     (prices.sure, {"task": GIVEN_TASK, "place": PLACE}),
     (prices.open_places, {"task": GIVEN_TASK}),
     (prices.with_known, {"task": GIVEN_TASK, "place": PLACE, "literal": LITERAL}),
+    (best.extra, {"task": GIVEN_TASK, "wishes": WISHES}),
+    (best.barred, {"task": GIVEN_TASK, "wishes": WISHES}),
+    (best.best_with, {"task": GIVEN_TASK, "wishes": WISHES}),
+    (best.best_fillings, {"task": GIVEN_TASK}),
+    (best.count_best, {"task": GIVEN_TASK}),
+    (best.is_best, {"task": GIVEN_TASK, "value": FILLED}),
+    (best.middle_filling, {"filling": FREE_FILLING, "other_filling": OTHER_FILLING, "third_filling": OTHER_FILLING}),
+    (ties.tie_numbers, {"task": GIVEN_TASK, "place": PLACE, "other_place": OTHER_PLACE}),
+    (ties.bends, {"task": GIVEN_TASK, "place": PLACE, "other_place": OTHER_PLACE}),
+    (ties.total_at, {"task": GIVEN_TASK, "place": PLACE, "other_place": OTHER_PLACE, "weight": WEIGHT}),
+    (ties.crossings, {"task": GIVEN_TASK, "place": PLACE, "other_place": OTHER_PLACE, "weight": TIE_WEIGHT}),
+    (ties.best_range, {"task": GIVEN_TASK, "place": PLACE, "other_place": OTHER_PLACE, "filling": BEST_FILLING}),
+    (forests.messages, {"task": GIVEN_TASK, "thing": THING}),
+    (forests.margin, {"task": GIVEN_TASK, "place": PLACE, "thing": THING}),
+    (forests.forest_total, {"task": GIVEN_TASK}),
 ]
 
 

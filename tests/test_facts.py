@@ -1,16 +1,19 @@
-"""Point 10: the facts F1 to F9 hold of what the program answers."""
+"""Point 10: the facts F1 to F12 hold of what the program answers."""
 
 import unittest
 from itertools import combinations, product
 
 from tests import trials, web_trials
+from thingwise.best import barred, best_fillings, best_with, extra, is_best, middle_filling
 from thingwise.cuts import brings, flow, flow_worth, least_cut, least_sides
 from thingwise.errors import NoLot
+from thingwise.forests import margin, messages
 from thingwise.parts import can_be, closure, contrary
 from thingwise.prices import lot_prices, price, sure, thing_price
 from thingwise.tables import Table, closed_table, middles_to, missing_middle, rules_of, table_of
 from thingwise.tasks import Task, best_toward, cost, fills, least_total, star_against, thing_cuts
-from thingwise.webs import cut_gaps, cut_of
+from thingwise.ties import bends, crossings, tie_numbers, total_at
+from thingwise.webs import cut_gaps, cut_of, weight_of, with_tie
 
 
 class FactsTest(unittest.TestCase):
@@ -144,6 +147,67 @@ class FactsTest(unittest.TestCase):
                 for more, lot in lot_prices(task, place):
                     met = [found for literal, found in alone.items() if trials.does_meet(lot, literal)]
                     self.assertEqual(more, sum(met))
+
+    def test_f9_prices_of_some_wishes(self):
+        for table, web, parts in web_trials.chosen_tasks(50, 300):
+            task = Task(table, web, parts)
+            for wishes in web_trials.chosen_wishes(table, web, 6):
+                longer = tuple(tuple(sorted({*part, *[literal for at, literal in wishes if at == place]}))
+                               for place, part in enumerate(parts))
+                if extra(task, wishes) is not None:
+                    self.assertEqual(extra(task, wishes), least_total(Task(table, web, longer)) - least_total(task))
+
+    def test_f10_middles_of_best_fillings(self):
+        for table, web, parts in [*web_trials.chosen_tasks(60, 300), *web_trials.open_tasks(28, 300)]:
+            task = Task(table, web, parts)
+            for three in combinations(best_fillings(task)[:12], 3):
+                found = middle_filling(*three)
+                self.assertEqual(found, tuple(trials.tried_middle(lots) for lots in zip(*three)))
+                self.assertTrue(is_best(task, found))
+
+    def test_f10_two_wishes_at_a_time(self):
+        for table, web, parts in [*web_trials.chosen_tasks(40, 300), *web_trials.open_tasks(21, 300)]:
+            task = Task(table, web, parts)
+            for wishes in web_trials.chosen_wishes(table, web, 12):
+                groups = [list(group) for size in (1, 2) for group in combinations(wishes, size)]
+                told = all([best_with(task, group) is not None for group in groups])
+                self.assertIs(best_with(task, wishes) is not None, told)
+                self.assertIs(barred(task, wishes) is None, told)
+
+    def test_f11_the_total_at_each_weight(self):
+        for table, web, parts in web_trials.chosen_tasks(60, 300):
+            task = Task(table, web, parts)
+            for ends in list(combinations(range(web.places), 2))[:6]:
+                numbers = tie_numbers(task, *ends)
+                above_all = 99 * web_trials.GREAT
+                found = sorted([above_all if alike is None else alike - apart for alike, apart in numbers])
+                self.assertEqual(bends(task, *ends), [bend for bend in found if bend < above_all])
+                for weight in (0, 1, 2, 3, web_trials.GREAT):
+                    cuts = [apart + weight if alike is None else min(alike, apart + weight) for alike, apart in numbers]
+                    self.assertEqual(total_at(task, *ends, weight), sum(cuts))
+                    there = Task(table, with_tie(web, *ends, weight), parts)
+                    self.assertEqual([told[0] for told in thing_cuts(there)], cuts)
+                    if weight > 0:
+                        numbers_apart = (sum(bend > weight for bend in found), sum(bend >= weight for bend in found))
+                        self.assertEqual(crossings(task, *ends, weight), numbers_apart)
+
+    def test_f12_messages(self):
+        for table, web, parts in web_trials.chosen_forest_tasks(60, 9):
+            task = Task(table, web, parts)
+            for thing in range(table.things):
+                must, never = web_trials.tried_between(task.parts, thing)
+                told = {row[:2]: row[2] for row in messages(task, thing)}
+                for (place, other), message in told.items():
+                    weight = weight_of(web, place, other)
+                    heard = sum(found for way, found in told.items() if way[1] == place and way[0] != other)
+                    by_sum = max(-weight, min(weight, heard))
+                    self.assertEqual(message, weight if place in must else -weight if place in never else by_sum)
+                for place in range(web.places):
+                    if place not in must + never:
+                        found = sum(message for way, message in told.items() if way[1] == place)
+                        self.assertEqual(margin(task, place, thing), found)
+                        self.assertEqual(thing_price(task, place, (thing, "in")), max(0, -found))
+                        self.assertEqual(thing_price(task, place, (thing, "out")), max(0, found))
 
 
 if __name__ == "__main__":

@@ -8,10 +8,10 @@ from itertools import product
 from tests import trials
 from tests.arguments import CALLS, frozen, spoil
 from tests.web_trials import AT_MOST_ONE, EXAMPLE_WEB
-from thingwise import cuts, parts, prices, tables, tasks, webs
+from thingwise import best, cuts, forests, parts, prices, tables, tasks, ties, webs
 from thingwise.errors import (
-    CannotBe, InvalidLiteral, InvalidPart, InvalidParts, InvalidPlace, InvalidRules, InvalidSide, InvalidWeight, NoLot,
-    NotClosed)
+    CannotBe, InvalidFilling, InvalidLiteral, InvalidPart, InvalidParts, InvalidPlace, InvalidRules, InvalidSide,
+    InvalidThing, InvalidWeight, NoLot, NotAForest, NotBest, NotClosed)
 from thingwise.tables import Table
 from thingwise.tasks import Task
 from thingwise.webs import Web
@@ -64,6 +64,14 @@ class WrongArgumentsTest(unittest.TestCase):
         known = Task(AT_MOST_ONE, Web(1, []), (((0, "in"),),))
         self.assertRaises(InvalidLiteral, prices.with_known, known, 0, (2, "in"))
         self.assertRaises(CannotBe, prices.with_known, known, 0, (1, "in"))
+        ring = Task(AT_MOST_ONE, Web(3, [(0, 1, 1), (1, 2, 1), (0, 2, 1)]), ((),) * 3)
+        self.assertRaises(InvalidThing, forests.messages, ring, 2)
+        self.assertRaises(InvalidPlace, forests.margin, ring, 3, 2)
+        self.assertRaises(InvalidThing, forests.margin, ring, 2, 2)
+        self.assertRaises(NotAForest, forests.margin, ring, 2, 1)
+        self.assertRaises(InvalidPlace, ties.best_range, ring, 2, 2, ((), (0,), ()))
+        self.assertRaises(InvalidFilling, ties.best_range, ring, 2, 1, ((), (0,), 0))
+        self.assertRaises(NotBest, ties.best_range, ring, 2, 1, ((), (0,), ()))
 
     def test_names_of_parameters(self):
         for function, kinds in CALLS:
@@ -80,7 +88,7 @@ class WrongArgumentsTest(unittest.TestCase):
             return "no lot"
 
     def test_interface_is_defined_in_its_files(self):
-        files = (tables, parts, webs, cuts, tasks, prices)
+        files = (tables, parts, webs, cuts, tasks, prices, best, ties, forests)
         for function, _ in CALLS:
             homes = [module.__name__ for module in files if function.__module__ == module.__name__]
             self.assertEqual(homes, [function.__module__])

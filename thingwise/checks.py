@@ -5,7 +5,7 @@ Wherever a number of things is asked for here, None stands for "of any things".
 
 from thingwise.errors import (
     InvalidFilling, InvalidLiteral, InvalidLot, InvalidOrder, InvalidPart, InvalidParts, InvalidPlace, InvalidPlaces,
-    InvalidRules, InvalidSide, InvalidThings, InvalidWeight)
+    InvalidRules, InvalidSide, InvalidThing, InvalidThings, InvalidWeight, InvalidWishes)
 
 
 def is_integer(value, least):
@@ -74,6 +74,14 @@ def is_side(value, places):
     return is_lot(value, places)
 
 
+def is_wish(value, things, places):
+    """Whether any value is a wish for so many things and places."""
+    if type(value) is not tuple or len(value) != 2:
+        return False
+    place, literal = value
+    return is_place(place, places) and is_literal(literal, things)
+
+
 def check_things(things):
     """Raises InvalidThings unless this is a number of things."""
     if not is_integer(things, 1):
@@ -90,6 +98,12 @@ def check_literal(literal, things):
     """Raises InvalidLiteral unless this is a literal of so many things."""
     if not is_literal(literal, things):
         raise InvalidLiteral("a literal must be a tuple of a thing that is there and 'in' or 'out'")
+
+
+def check_thing(thing, things):
+    """Raises InvalidThing unless this is one of so many things."""
+    if not is_thing(thing, things):
+        raise InvalidThing("a thing must be an integer from 0 on, less than the number of things")
 
 
 def check_rules(rules, things):
@@ -164,3 +178,16 @@ def check_filling(filling, places):
         raise InvalidFilling("a filling must be a tuple with a lot for each place")
     if not all([is_lot(lot, None) for lot in filling]):
         raise InvalidFilling("a filling must have nothing but lots")
+
+
+def check_free_filling(filling):
+    """Raises InvalidFilling unless this is a tuple with one or more lots of any things."""
+    if type(filling) is not tuple or len(filling) == 0:
+        raise InvalidFilling("a filling must be a tuple of one or more lots")
+    check_filling(filling, len(filling))
+
+
+def check_wishes(wishes, things, places):
+    """Raises InvalidWishes unless this is a list of wishes for so many things and places."""
+    if type(wishes) is not list or not all([is_wish(wish, things, places) for wish in wishes]):
+        raise InvalidWishes("wishes must be a list of tuples of a place and a literal")

@@ -22,7 +22,7 @@ def least_sides(web, must, never):
     for place in _between(least, greatest):
         brought = tuple(ways_from([place], rooms))
         for side in list(found):
-            found[tuple(sorted(set(side + brought)))] = True
+            found[side_with(side, brought)] = True
     return sorted(found)
 
 
@@ -107,6 +107,11 @@ def _outermost_sides(rooms, must, never):
     barred = ways_from(never, rooms_back)
     least = tuple(sorted(ways_from(must, rooms)))
     return least, tuple([place for place in places if place not in barred])
+
+
+def side_with(side, places):
+    """The side with these places, too."""
+    return tuple(sorted(set(side + places)))
 
 
 def _between(least, greatest):

@@ -1,9 +1,9 @@
 """Prices: what a wish, or a lot at a place, costs more than the total, and what is sure."""
 
 from thingwise.checks import check_literal, check_place
-from thingwise.cuts import least_cut
+from thingwise.cuts import least_cut, side_with
 from thingwise.errors import CannotBe
-from thingwise.parts import closure, contrary, fitting_lots
+from thingwise.parts import can_be, closure, contrary, fitting_lots
 from thingwise.tables import all_literals, meets
 from thingwise.tasks import Task, check_task, must_and_never, thing_cut
 
@@ -16,16 +16,16 @@ def thing_price(task, place, literal):
     thing, word = literal
     must, never = must_and_never(task.parts, thing)
     if word == "in":
-        must = _with_place(must, place)
+        must = side_with(must, (place,))
     else:
-        never = _with_place(never, place)
+        never = side_with(never, (place,))
     return least_cut(task.web, must, never)[0] - thing_cut(task.web, task.parts, thing)[0]
 
 
 def price(task, place, literal):
     """What the literal at the place costs more; None if it cannot be. By F9 the sum of what it brings."""
     _check_wish(task, place, literal)
-    longer = _longer_part(task, place, literal)
+    longer = longer_part(task, place, [literal])
     if longer is None:
         return None
     return sum([thing_price(task, place, known) for known in longer])
@@ -68,7 +68,7 @@ def open_places(task):
 def with_known(task, place, literal):
     """The Task in which the part of the place has the literal, too."""
     _check_wish(task, place, literal)
-    longer = _longer_part(task, place, literal)
+    longer = longer_part(task, place, [literal])
     if longer is None:
         raise CannotBe(place)
     return Task(task.table, task.web, task.parts[:place] + (longer,) + task.parts[place + 1:])
@@ -86,18 +86,14 @@ def _check_wish(task, place, literal):
     check_literal(literal, task.table.things)
 
 
-def _with_place(side, place):
-    """The side with the place."""
-    return tuple(sorted(set(side + (place,))))
-
-
-def _longer_part(task, place, literal):
-    """The closure of the part of the place with the literal added, None if this cannot be.
-
-    It can be unless the part has the contrary: if all lots that fit the part met the contrary, then the part
-    would have it, for it is a closure.
-    """
+def longer_part(task, place, literals):
+    """The closure of the part of the place with these literals added, None if this cannot be."""
     part = task.parts[place]
-    if contrary(literal) in part:
+    added = tuple([literal for literal in sorted(set(literals)) if literal not in part])
+    if len(added) == 0:
+        return part
+    # With a literal and its contrary there is no part at all.
+    longer = tuple(sorted(part + added))
+    if any([contrary(literal) in longer for literal in added]) or not can_be(task.table, longer):
         return None
-    return closure(task.table, tuple(sorted(set(part + (literal,)))))
+    return closure(task.table, longer)

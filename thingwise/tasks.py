@@ -77,10 +77,10 @@ def cost(web, filling):
     """The sum over all ties of the weight times the number of things at just one of both ends."""
     check_web(web)
     check_filling(filling, web.places)
-    return sum([weight * _things_apart(filling[low], filling[high]) for low, high, weight in web])
+    return sum([weight * things_apart(filling[low], filling[high]) for low, high, weight in web])
 
 
-def _things_apart(lot, other_lot):
+def things_apart(lot, other_lot):
     """The number of things that are in just one of both lots."""
     here_alone = [thing for thing in lot if thing not in other_lot]
     there_alone = [thing for thing in other_lot if thing not in lot]
@@ -111,7 +111,7 @@ def thing_cut(web, parts, thing):
     return least_cut(web, must, never)
 
 
-def _all_thing_cuts(things, web, parts):
+def cuts_of_things(things, web, parts):
     """The list of what least_cut tells of each thing."""
     return [thing_cut(web, parts, thing) for thing in range(things)]
 
@@ -119,7 +119,7 @@ def _all_thing_cuts(things, web, parts):
 def thing_cuts(task):
     """The list of what least_cut tells of each thing, from 0 on."""
     check_task(task)
-    return _all_thing_cuts(task.table.things, task.web, task.parts)
+    return cuts_of_things(task.table.things, task.web, task.parts)
 
 
 def least_total(task):
@@ -182,7 +182,7 @@ def _tried_rest(filling, choices, ties_down):
         return 0
     found = []
     for lot in choices[place]:
-        added = sum([weight * _things_apart(filling[low], lot) for low, weight in ties_down[place]])
+        added = sum([weight * things_apart(filling[low], lot) for low, weight in ties_down[place]])
         found.append(added + _tried_rest(filling + (lot,), choices, ties_down))
     return min(found)
 
@@ -195,5 +195,5 @@ def star_against(table):
         return None
     web = Web(4, [(0, 3, 1), (1, 3, 1), (2, 3, 1)])
     parts = parts_of(table.things, list(three) + [None])
-    thing_by_thing = sum([told[0] for told in _all_thing_cuts(table.things, web, parts)])
+    thing_by_thing = sum([told[0] for told in cuts_of_things(table.things, web, parts)])
     return (web, parts, thing_by_thing, tried_total(table, web, parts))
