@@ -1,11 +1,12 @@
 """The calls of the interface, with right and wrong arguments of the described kinds, for the tests of point 2."""
 
 from tests.web_trials import AT_MOST_ONE, EXAMPLE_PARTS, EXAMPLE_WEB
-from thingwise import best, cuts, forests, parts, prices, tables, tasks, ties, webs
+from thingwise import best, cuts, forests, outsides, parts, prices, tables, tasks, ties, webs, words
 from thingwise.errors import (
     InvalidFilling, InvalidLiteral, InvalidLot, InvalidOrder, InvalidPart, InvalidParts, InvalidPlace, InvalidPlaces,
     InvalidRules, InvalidSide, InvalidTable, InvalidTask, InvalidThing, InvalidThings, InvalidTies, InvalidWeb,
-    InvalidWeight, InvalidWishes, NoLot)
+    InvalidWeight, InvalidWishes, InvalidWords, NoLot)
+from thingwise.live import Board, CalmBoard
 from thingwise.tables import Table
 from thingwise.tasks import Task
 from thingwise.webs import Web
@@ -56,6 +57,7 @@ NO_WISHES = [(), ((1, (0, "in")),), (1, (0, "in")), 0, TASK] + [[wrong] for wron
     (True, (0, "in")), (1, (2, "in")), (1, (True, "in")), (1, (0, "on")), (HUGE, (0, "in")), (1, (HUGE, "in")), (1, 0, "in"),
     ((0, "in"), 1), ("1", (0, "in")), (1, None))] + [[(1, (0, "in")), None], [(1, (0, "in")), (1, (0, "on"))]]
 NO_FREE_FILLINGS = [(), [(), (0,)], ((), []), ((), None), ((1, 0), ()), (0, 1), ((), (True,)), ((), (-1,)), "01", 0, TASK]
+OTHER_TEXTS = ["3", "3 ", " 3 -", "3  -", "x", "+0 ", "-  -", "0,", "+0,", "1.0", "07", "- - - - - - - - - -"]
 NO_FILLINGS = [(), ((), ()), ((), (), (), ()), [(), (), ()], ((), (), []), ((), None, ()), ((1, 0), (), ()), (0, 1, 2),
                ((), (True,), ()), ((), (-1,), ()), "012", 0, TASK]
 
@@ -78,6 +80,21 @@ OTHER_FILLING = (InvalidFilling, [((), ()), ((1,), (0, 1))], NOTHING + NO_FREE_F
 WISHES = (InvalidWishes, [[], [(1, (0, "in")), (1, (0, "out")), (1, (0, "in"))], [(1, (1, "in"))]], [
     value for value in NOTHING if value != []] + NO_WISHES)
 THING = (InvalidThing, [0, 1], NOTHING + [2, HUGE, (), (0,), [0], "1", (0, "in"), TABLE])
+OUTER = (InvalidSide, [(0, 2)], NOTHING + NO_SIDES + [()])
+OTHER_OUTER = (InvalidSide, [(0, 1), (1, 2)], NOTHING + NO_SIDES + [(), (0,), (0, 1, 2)])
+THREE_OUTER = (InvalidSide, [(0, 1, 2)], NOTHING + NO_SIDES + [(), (1,), (0, 2)])
+
+
+def texts(right, *others):
+    """A string that can be read: right ones, and all of the wrong values that are not told to be right."""
+    return (InvalidWords, list(right), [value for value in NOTHING + OTHER_TEXTS + [0, (), list(right), *others]
+                                        if value not in right])
+
+
+TABLE_TEXT = texts(["2 - 0", "1 0"], "2 0 -", "2 2", "0 -", "7 -", "2 - -", b"1 0")
+WEB_TEXT = texts(["3 0-1:2 1-2:3", "3", "1"], "3 0-3:1", "3 1-0:1", "3 0-1:0", "3 0-1:1 0-1:2", "10", "3 0-1:1000000000000")
+PART_TEXT = texts([".", "+0,-5"], "+6", "-", "+0,-0", "-1,+0", ". .", "0")
+FILLING_TEXT = texts(["0", "- 0,5", "3"], "6", "0 6", "1,0", ".", "+0")
 TIE_WEIGHT = (InvalidWeight, [1, 10 ** 12 - 1], NOTHING + [0, (), (1,), [], [1], WEB])
 TOWARD = (InvalidLot, [(), (1,)], NOTHING + NO_LOTS + [TABLE, (0, 1), (2,), (HUGE,)])
 KNOWN_LOTS = (InvalidLot, [[(0, 1), None], [None]],
@@ -149,6 +166,21 @@ CALLS = [
     (forests.messages, {"task": GIVEN_TASK, "thing": THING}),
     (forests.margin, {"task": GIVEN_TASK, "place": PLACE, "thing": THING}),
     (forests.forest_total, {"task": GIVEN_TASK}),
+    (outsides.outline, {"web": GIVEN_WEB, "outer": OUTER}),
+    (outsides.parted_outside, {"web": GIVEN_WEB, "outer": OUTER, "other_web": GIVEN_WEB, "other_outer": OTHER_OUTER}),
+    (outsides.star_of, {"web": GIVEN_WEB, "outer": THREE_OUTER}),
+    (outsides.take_out, {"web": GIVEN_WEB, "place": PLACE}),
+    (outsides.shrunk, {"web": GIVEN_WEB, "outer": OUTER}),
+    (Board, {"table": GIVEN_TABLE, "web": GIVEN_WEB}),
+    (CalmBoard, {"table": GIVEN_TABLE, "web": GIVEN_WEB}),
+    (words.write_table, {"table": GIVEN_TABLE}),
+    (words.write_web, {"web": GIVEN_WEB}),
+    (words.write_part, {"part": ANY_PART}),
+    (words.write_filling, {"filling": FREE_FILLING}),
+    (words.read_table, {"words": TABLE_TEXT}),
+    (words.read_web, {"words": WEB_TEXT}),
+    (words.read_part, {"words": PART_TEXT}),
+    (words.read_filling, {"words": FILLING_TEXT}),
 ]
 
 
@@ -160,6 +192,8 @@ def frozen(value):
         return f"Web({value.places}, {value.ties})"
     if isinstance(value, Task):
         return f"Task({frozen(value.table)}, {frozen(value.web)}, {value.parts})"
+    if isinstance(value, Board):
+        return f"{value.__class__.__name__}({len(value)}, {frozen(value.as_task())})"
     if isinstance(value, (tuple, list)):
         return f"{value.__class__.__name__}({[frozen(item) for item in value]})"
     return repr(value)

@@ -1,4 +1,4 @@
-"""Point 10: the facts F1 to F12 hold of what the program answers."""
+"""Point 10: the facts F1 to F13 hold of what the program answers."""
 
 import unittest
 from itertools import combinations, product
@@ -8,12 +8,13 @@ from thingwise.best import barred, best_fillings, best_with, extra, is_best, mid
 from thingwise.cuts import brings, flow, flow_worth, least_cut, least_sides
 from thingwise.errors import NoLot
 from thingwise.forests import margin, messages
+from thingwise.outsides import outline, parted_outside, star_of, take_out
 from thingwise.parts import can_be, closure, contrary
 from thingwise.prices import lot_prices, price, sure, thing_price
 from thingwise.tables import Table, closed_table, middles_to, missing_middle, rules_of, table_of
 from thingwise.tasks import Task, best_toward, cost, fills, least_total, star_against, thing_cuts
 from thingwise.ties import bends, crossings, tie_numbers, total_at
-from thingwise.webs import cut_gaps, cut_of, weight_of, with_tie
+from thingwise.webs import Web, cut_gaps, cut_of, weight_of, with_tie
 
 
 class FactsTest(unittest.TestCase):
@@ -208,6 +209,28 @@ class FactsTest(unittest.TestCase):
                         self.assertEqual(margin(task, place, thing), found)
                         self.assertEqual(thing_price(task, place, (thing, "in")), max(0, -found))
                         self.assertEqual(thing_price(task, place, (thing, "out")), max(0, found))
+
+    def test_f13_places_taken_out(self):
+        for web in web_trials.chosen_webs(40, 6):
+            for place in range(web.places):
+                weights = [tie[2] for tie in web if place in tie[:2]]
+                if web.places > 1 and len(weights) < 4:
+                    small, factor = take_out(web, place)
+                    others = tuple(other for other in range(web.places) if other != place)
+                    doubled = Web(web.places, [(low, high, factor * weight) for low, high, weight in web])
+                    self.assertEqual(factor, 2 if len(weights) == 3 else 1)
+                    self.assertIsNone(parted_outside(doubled, others, small, tuple(range(small.places))))
+                    self.assertTrue(all(weight > 0 for _, _, weight in small))
+
+    def test_f13_stars_and_triangles(self):
+        """A star taken out makes the triangle with the doubled outline, and the triangle's star is the doubled star."""
+        for weights in product((1, 2, 3, 7), repeat=3):
+            star = Web(4, [(place, 3, weight) for place, weight in enumerate(weights)])
+            triangle, factor = take_out(star, 3)
+            self.assertEqual((triangle.places, factor), (3, 2))
+            free = [min(weight, sum(weights) - weight) for weight in weights]
+            self.assertEqual(outline(triangle, (0, 1, 2))[1:4], [2 * free[0], 2 * free[1], 2 * free[2]])
+            self.assertEqual(star_of(triangle, (0, 1, 2)), Web(4, [(k, 3, 2 * found) for k, found in enumerate(free)]))
 
 
 if __name__ == "__main__":

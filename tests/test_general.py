@@ -8,10 +8,10 @@ from itertools import product
 from tests import trials
 from tests.arguments import CALLS, frozen, spoil
 from tests.web_trials import AT_MOST_ONE, EXAMPLE_WEB
-from thingwise import best, cuts, forests, parts, prices, tables, tasks, ties, webs
+from thingwise import best, console, cuts, forests, live, outsides, parts, prices, tables, tasks, ties, webs, words
 from thingwise.errors import (
     CannotBe, InvalidFilling, InvalidLiteral, InvalidPart, InvalidParts, InvalidPlace, InvalidRules, InvalidSide,
-    InvalidThing, InvalidWeight, NoLot, NotAForest, NotBest, NotClosed)
+    InvalidThing, InvalidWeight, InvalidWords, NoLot, NotAForest, NotBest, NotClosed, TooManyTies)
 from thingwise.tables import Table
 from thingwise.tasks import Task
 from thingwise.webs import Web
@@ -72,6 +72,11 @@ class WrongArgumentsTest(unittest.TestCase):
         self.assertRaises(InvalidPlace, ties.best_range, ring, 2, 2, ((), (0,), ()))
         self.assertRaises(InvalidFilling, ties.best_range, ring, 2, 1, ((), (0,), 0))
         self.assertRaises(NotBest, ties.best_range, ring, 2, 1, ((), (0,), ()))
+        cross = Web(5, [(place, 4, 1) for place in range(4)])
+        self.assertRaises(InvalidPlace, outsides.take_out, cross, 5)
+        self.assertRaises(TooManyTies, outsides.take_out, cross, 4)
+        self.assertRaises(InvalidSide, outsides.parted_outside, cross, (0, 1), EXAMPLE_WEB, (0, 1, 2))
+        self.assertRaises(InvalidWords, words.read_part, ((0, "in"),))
 
     def test_names_of_parameters(self):
         for function, kinds in CALLS:
@@ -88,14 +93,16 @@ class WrongArgumentsTest(unittest.TestCase):
             return "no lot"
 
     def test_interface_is_defined_in_its_files(self):
-        files = (tables, parts, webs, cuts, tasks, prices, best, ties, forests)
+        files = (tables, parts, webs, cuts, tasks, prices, best, ties, forests, outsides, live, words, console)
         for function, _ in CALLS:
             homes = [module.__name__ for module in files if function.__module__ == module.__name__]
             self.assertEqual(homes, [function.__module__])
             self.assertIs(getattr(inspect.getmodule(function), function.__name__), function)
         for made, names in ((Table, "__init__ things lots __len__ __iter__ __contains__ __eq__"),
                             (Web, "__init__ places ties __len__ __iter__ __eq__ __add__"),
-                            (Task, "__init__ table web parts __eq__")):
+                            (Task, "__init__ table web parts __eq__"), (console.Console, "__init__ execute"),
+                            (live.Board, "__init__ total web table parts __len__ __eq__ know tie undo lots_there as_task twin"),
+                            (live.CalmBoard, "know tie undo twin")):
             for name in names.split():
                 self.assertIn(name, vars(made))
 

@@ -6,9 +6,26 @@ import pathlib
 import unittest
 
 from tests.loops import loops_that_change_what_they_walk
+from thingwise import errors
 
 PACKAGE = pathlib.Path(__file__).resolve().parent.parent / "thingwise"
-BARRED = (ast.GeneratorExp, ast.AsyncFunctionDef, ast.Global, ast.Try, ast.Div, ast.Set)
+BARRED = (ast.GeneratorExp, ast.AsyncFunctionDef, ast.Global, ast.Div, ast.Set)
+
+BARRED_NAMES = ("register", "mro", "elements", "open", "input", "law", "version_info", "with_traceback", "add_note", "dir",
+                "exit", "id", "super", "vars", "os", "sys", "help", "eval", "exec", "compile", "quit", "license")
+BARRED_BEGINNINGS = ("^(__(?!init__|eq__|len__|iter__|add__|contains__)|_wall|_pe_|_dcw_|_enum_|_cm_|_twin_re_|_lay_|_law_|"
+                     "_stub_|_sre|(_cold|_tuplegetter|_outside|_record|_written_out|_member_names)[0-9_]*$)")
+
+
+def named(node):
+    """The names that a node gives to something."""
+    if isinstance(node, ast.Name) and isinstance(node.ctx, ast.Store):
+        return [node.id]
+    if isinstance(node, (ast.FunctionDef, ast.ClassDef)):
+        return [node.name]
+    if isinstance(node, ast.Attribute):
+        return [node.attr]
+    return [node.arg] if isinstance(node, ast.arg) else []
 
 
 class LanguageTest(unittest.TestCase):
@@ -53,6 +70,15 @@ class LanguageTest(unittest.TestCase):
                     self.assertNotIsInstance(node.value, (float, complex), name)
                     self.assertFalse(isinstance(node.value, str) and "%" in node.value, name)
 
+    def test_nothing_but_own_errors_is_caught(self):
+        for name, text in self.texts.items():
+            for node in ast.walk(ast.parse(text)):
+                if isinstance(node, ast.Try):
+                    self.assertEqual(node.finalbody, [], name)
+                if isinstance(node, ast.ExceptHandler):
+                    self.assertIsInstance(node.type, ast.Name, (name, node.lineno))
+                    self.assertEqual(getattr(errors, node.type.id).__module__, "thingwise.errors")
+
     def test_names_have_one_meaning(self):
         for name, text in self.texts.items():
             tree = ast.parse(text)
@@ -68,13 +94,24 @@ class LanguageTest(unittest.TestCase):
                 if isinstance(node, ast.Name) and isinstance(node.ctx, ast.Store):
                     self.assertNotIn(node.id, taken, name)
 
+    def test_barred_names(self):
+        for name, text in self.texts.items():
+            for node in ast.walk(ast.parse(text)):
+                for word in named(node):
+                    self.assertNotIn(word, BARRED_NAMES, name)
+                    self.assertNotRegex(word, BARRED_BEGINNINGS, name)
+                if isinstance(node, ast.Pow):
+                    self.fail((name, "an exponent"))
+
     def test_library_is_not_used(self):
         """Beside the package's own functions only these are called by a bare name."""
         plain = {"len", "range", "enumerate", "zip", "min", "max", "sum", "sorted", "reversed", "list", "tuple", "set",
-                 "isinstance", "any", "all", "iter", "type"}
+                 "isinstance", "any", "all", "iter", "type", "str", "int", "super"}
         for name, text in self.texts.items():
             tree = ast.parse(text)
             own = {node.name for node in tree.body if isinstance(node, (ast.ClassDef, ast.FunctionDef))}
+            # A function out of a table is given this name ahead of its call.
+            own.add("action")
             for node in tree.body:
                 if isinstance(node, ast.ImportFrom):
                     own.update(alias.name for alias in node.names)

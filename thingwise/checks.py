@@ -156,6 +156,13 @@ def check_never(never, must, places):
         raise InvalidSide("must and never may not have a common place")
 
 
+def check_outer(outer, places):
+    """Raises InvalidSide unless this is a side of so many places with one place or more."""
+    check_side(outer, places)
+    if len(outer) == 0:
+        raise InvalidSide("there must be one outer place or more")
+
+
 def check_order(order, places):
     """Raises InvalidOrder unless this is a tuple with each of so many places once."""
     if type(order) is not tuple or not all([is_place(place, places) for place in order]):

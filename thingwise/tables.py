@@ -89,7 +89,7 @@ def all_literals(things):
 
 
 def all_lots(things):
-    """A list of all lots of so many things."""
+    """The list of all lots of so many things; the one at the index k has the things whose digits in k are 1."""
     lots = [()]
     for thing in range(things):
         lots = lots + [lot + (thing,) for lot in lots]
