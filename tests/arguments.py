@@ -2,6 +2,7 @@
 
 from tests.web_trials import AT_MOST_ONE, EXAMPLE_PARTS, EXAMPLE_WEB
 from thingwise import best, cuts, forests, outsides, parts, prices, tables, tasks, ties, webs, words
+from thingwise.console import Console
 from thingwise.errors import (
     InvalidFilling, InvalidLiteral, InvalidLot, InvalidOrder, InvalidPart, InvalidParts, InvalidPlace, InvalidPlaces,
     InvalidRules, InvalidSide, InvalidTable, InvalidTask, InvalidThing, InvalidThings, InvalidTies, InvalidWeb,
@@ -20,7 +21,7 @@ DEEP = [[[[[[[[[["in"]]]]]]]]]]
 # What is of none of the described kinds.
 NOTHING = [None, True, False, -1, -HUGE, "", "in", "0", "()", DEEP, (DEEP,), [None], (None,), [True], NoLot("x"),
            (NoLot("x"),), [TABLE], (TABLE,), Table, [0] * 300,
-           [TASK], (WEB,), Web, Task]
+           [TASK], (WEB,), Web, Task, Board(TABLE, WEB), CalmBoard(TABLE, WEB), Console(), Board]
 NO_LOTS = [(True,), (False,), (0, True), (1, 0), (0, 0), (-1,), ("0",), ("in",), ((),), ((0,),), ([0],), [], [0],
            (0, None), (0, "in"), 0, 1]
 NO_LITERALS = [(), (0,), (0, "in", 0), (0, "on"), (0, "IN"), (0, b"in"), (0, None), (0, ("in",)), (True, "in"),
